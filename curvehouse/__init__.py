@@ -1,0 +1,1 @@
+"""Curvehouse: how long one may wait, told by curves."""
