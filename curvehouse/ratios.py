@@ -3,6 +3,8 @@
 from curvehouse.errors import NoRatio
 from curvehouse.wholes import divisor, is_whole
 
+NOUGHT = (0, 1)
+
 
 def ratio(top, bottom):
     if not is_whole(top) or not is_whole(bottom):

@@ -67,8 +67,6 @@ def function_faults(node):
     if asked.vararg or asked.kwarg or asked.kwonlyargs or asked.posonlyargs:
         yield "L4: parameters that are not plain"
     for given in asked.args:
-        if hasattr(builtins, given.arg):
-            yield f"L15: the parameter {given.arg}"
         yield from name_faults(given.arg)
     if isinstance(node, ast.FunctionDef):
         yield from name_faults(node.name)
@@ -139,7 +137,41 @@ def statement_faults(node):
         yield "L6: except without a name"
 
 
+def taken_names(tree):
+    """The classes and imports of a file: nothing else in it is called like them."""
+    found = {part.name for part in tree.body if isinstance(part, ast.ClassDef)}
+    for part in tree.body:
+        if isinstance(part, ast.ImportFrom):
+            found.update(drawn.asname or drawn.name for drawn in part.names)
+    return found
+
+
+def local_faults(tree):
+    taken = taken_names(tree)
+    for node in ast.walk(tree):
+        name = None
+        if isinstance(node, ast.arg):
+            name = node.arg
+        if isinstance(node, ast.Name) and isinstance(node.ctx, ast.Store):
+            name = node.id
+        if name is not None and (name in taken or hasattr(builtins, name)):
+            yield f"L15: {name} is called like another thing"
+
+
+def top_faults(tree):
+    bound = defined(tree) + sorted(taken_names(tree) - set(defined(tree)))
+    for name in sorted(set(bound)):
+        if bound.count(name) > 1:
+            yield f"L15: {name} is bound twice"
+    for part in tree.body:
+        text = isinstance(part, ast.Expr) and isinstance(part.value, ast.Constant) and part == tree.body[0]
+        if not text and not isinstance(part, (ast.ImportFrom, ast.FunctionDef, ast.ClassDef, ast.Assign)):
+            yield f"L3: {type(part).__name__} at the top"
+
+
 def tree_faults(tree, own):
+    yield from local_faults(tree)
+    yield from top_faults(tree)
     for node in ast.walk(tree):
         if not isinstance(node, NODES):
             yield f"L6, L7: {type(node).__name__}"
@@ -166,6 +198,22 @@ def defined(tree):
     return found
 
 
+def drawn_from(tree):
+    return [part.module for part in tree.body if isinstance(part, ast.ImportFrom)]
+
+
+def reached_from(module, drawn):
+    """All files that a file draws from, in whatever many steps."""
+    found = []
+    waiting = list(drawn[module])
+    while waiting:
+        other = waiting.pop()
+        if other not in found:
+            found.append(other)
+            waiting.extend(drawn.get(other, []))
+    return found
+
+
 class LanguageTest(unittest.TestCase):
     def test_files(self):
         self.assertTrue((PACKAGE / "__init__.py").is_file())
@@ -182,6 +230,14 @@ class LanguageTest(unittest.TestCase):
             with self.subTest(path.name):
                 self.assertEqual(faults(text, own), [])
 
+    def test_no_two_files_draw_from_one_another(self):
+        drawn = {f"curvehouse.{path.stem}": drawn_from(ast.parse(path.read_text(encoding="utf-8")))
+                 for path in sorted(PACKAGE.glob("*.py"))}
+        for module in drawn:
+            with self.subTest(module):
+                self.assertNotIn(module, reached_from(module, drawn))
+        self.assertIn("a", reached_from("a", {"a": ["b"], "b": ["c"], "c": ["a"]}))
+
     def test_what_is_outside_is_found(self):
         for text in (
                 "import sys\n", "from curvehouse.wholes import *\n", "from os import path\n", "x = 1.5\n", "x = b''\n",
@@ -191,7 +247,9 @@ class LanguageTest(unittest.TestCase):
                 "class A:\n    x = 1\n", "try:\n    pass\nexcept:\n    pass\n", "while 1:\n    pass\nelse:\n    pass\n",
                 "# a \u00e9\n", "# " + "x" * 120 + "\n", "\n" * 401, "x =\t1\n",
                 "def f():\n" + "    pass\n" * 40, "x = (1 if 2 else (y := 3))\n", "# the type of it\n",
-                "from curvehouse.errors import Nothing\n"):
+                "from curvehouse.errors import Nothing\n", "def f():\n    next = 1\n", "x = 1\nx = 2\n", "f()\n",
+                "from curvehouse.errors import NoRatio\n\n\ndef f():\n    for NoRatio in [1]:\n        pass\n",
+                "from curvehouse.errors import NoRatio\nf = lambda NoRatio: 1\n", "def f():\n    pass\n\n\nf = 1\n"):
             with self.subTest(text=text[:40]):
                 self.assertNotEqual(faults(text, {"curvehouse.errors": ["NoRatio"]}), [])
 
