@@ -61,9 +61,13 @@ def slope_at(f, t):
 
 def piece_at(f, t):
     # A piece goes by the number of the corner at which it begins; a corner belongs to the piece behind it.
+    check_time(t)
+    return count_while(f[0], lambda corner: not under(t, corner[0])) - 1
+
+
+def check_time(t):
     if under(t, NOUGHT):
         raise NoTime("a time is not below nought")
-    return count_while(f[0], lambda corner: not under(t, corner[0])) - 1
 
 
 def slope_of_piece(f, number):
@@ -81,6 +85,22 @@ def slopes_behind(points, last):
     slopes = [slope_between(points[number - 1], points[number]) for number in range(1, len(points))]
     slopes.append(last)
     return slopes
+
+
+def steeper_corners(f):
+    # Those where the slope behind is greater than the one ahead.
+    slopes = slopes_behind(f[0], f[1])
+    return [f[0][number] for number in range(1, len(slopes)) if under(slopes[number - 1], slopes[number])]
+
+
+def flatter_corners(f):
+    slopes = slopes_behind(f[0], f[1])
+    return [f[0][number] for number in range(1, len(slopes)) if under(slopes[number], slopes[number - 1])]
+
+
+def outgrows(f, g):
+    # In the end the greater last slope is stronger than whatever was ahead.
+    return under(g[1], f[1])
 
 
 def time_of(point, slope, height):

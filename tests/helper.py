@@ -11,6 +11,8 @@ SIXTY_MORE = 10 ** 60 - 1
 NOUGHT = (0, 1)
 ONE = (1, 1)
 ZERO = (((NOUGHT, NOUGHT),), NOUGHT)
+HALF = Fraction(1, 2)
+TINY = Fraction(1, SIXTY)
 
 
 def told(worth):
@@ -59,38 +61,46 @@ class Plain:
 
 def probes(*plains):
     """All corners, a time between each two neighbours, and times behind the last, near and far."""
-    corners = sorted({time for one in plains for time in one.times})
-    between = [(ahead + after) / 2 for ahead, after in zip(corners, corners[1:])]
-    behind = [corners[-1] + more for more in (Fraction(1, 3), 1, 7, 10 ** 9, 10 ** 130)]
-    return sorted(corners + between + behind)
+    found = halved({time for one in plains for time in one.times})
+    return found + [found[-1] + more for more in (Fraction(1, 3), 1, 7, 10 ** 9, 10 ** 130)]
+
+
+def halved(times):
+    """The times in order, and the one halfway between each two neighbours."""
+    times = sorted(times)
+    return sorted(times + [(ahead + after) / 2 for ahead, after in zip(times, times[1:])])
 
 
 def small_curves():
     """Curves that begin low and high, flat, steep, bent to either side, crossing one another and touching."""
-    half = Fraction(1, 2)
     found = [ZERO]
     for begin in (0, 1, 3):
-        for last in (0, half, 1, 3):
+        for last in (0, HALF, 1, 3):
             found.append(shape([(0, begin)], last))
     for begin, time, more, last in (
-            (0, 1, 0, 1), (0, 2, 0, 3), (0, 5 * half, 0, half), (0, 1, 1, 0), (0, 2, 3, 0), (0, 2, 3, half),
-            (0, 1, 3, 1), (1, 2, 0, half), (1, 2, 2, 0), (1, 1, 0, 3), (2, 2, 1, 3), (2, 1, 3, 0), (3, 4, 0, 1)):
+            (0, 1, 0, 1), (0, 2, 0, 3), (0, 5 * HALF, 0, HALF), (0, 1, 1, 0), (0, 2, 3, 0), (0, 2, 3, HALF),
+            (0, 1, 3, 1), (1, 2, 0, HALF), (1, 2, 2, 0), (1, 1, 0, 3), (2, 2, 1, 3), (2, 1, 3, 0), (3, 4, 0, 1)):
         found.append(shape([(0, begin), (time, begin + more)], last))
     for points, last in (
             ([(0, 0), (1, 3), (2, 3)], 1),
             ([(0, 0), (1, 3), (2, 3), (3, 6), (4, 6)], 0),
             ([(0, 0), (1, 0), (2, 3), (3, 3), (4, 6)], 2),
-            ([(0, 1), (1, 1), (half * 3, 4), (5, 4)], 3),
-            ([(0, 2), (3, 2), (4, 9), (6, 10), (7, 10)], half),
+            ([(0, 1), (1, 1), (HALF * 3, 4), (5, 4)], 3),
+            ([(0, 2), (3, 2), (4, 9), (6, 10), (7, 10)], HALF),
             ([(0, 0), (2, 1), (3, 5), (8, 6)], 1),
             ([(0, 5), (1, 6), (4, 7), (9, 8)], 0),
-            ([(0, Fraction(1, 3)), (Fraction(2, 7), half), (1, half), (Fraction(9, 4), Fraction(17, 5))],
+            ([(0, Fraction(1, 3)), (Fraction(2, 7), HALF), (1, HALF), (Fraction(9, 4), Fraction(17, 5))],
              Fraction(3, 11))):
         found.append(shape(points, last))
     return found
 
 
 SMALL = small_curves()
+BENT_UP = shape([(0, 0), (1, 1), (3, 5), (4, 9)], 7)
+BENT_DOWN = shape([(0, 2), (1, 7), (3, 11), (5, 12)], 0)
+BENT_BOTH_WAYS = shape([(0, 1), (1, 1), (2, 5), (4, 6), (5, 6)], 3)
+STAIRS = shape([(0, 0), (1, 0), (2, 3), (3, 3), (4, 6), (5, 6)], 3)
+SHAPES = (BENT_UP, BENT_DOWN, BENT_BOTH_WAYS, STAIRS)
 
 
 def row_of_numbers(seed):

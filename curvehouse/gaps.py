@@ -1,0 +1,40 @@
+"""Gaps: the tallest and the widest of one curve over another one."""
+
+from curvehouse.curves import outgrows
+from curvehouse.heights import passed, reached
+from curvehouse.meets import corner_rows, gap_points
+from curvehouse.ratios import NOUGHT, greater, minus
+
+
+def tallest(f, g):
+    if outgrows(f, g):
+        return None
+    found = NOUGHT
+    for gap in gap_points(corner_rows(f, g)):
+        found = greater(found, gap[1])
+    return found
+
+
+def widest(f, g):
+    # Where the last slope of the first one is not greater, it only can stay too high for the other by its last corner.
+    if outgrows(f, g) or reached(g, f[0][-1][1]) is None:
+        return None
+    # The gap is told by height: as long as no corner of either is passed it grows or falls evenly.
+    found = NOUGHT
+    for corner in f[0] + g[0]:
+        found = greater(found, wide_at(f, g, corner[1]))
+    return found
+
+
+def wide_at(f, g, height):
+    # Where a curve is flat, it is passed later than reached, and just above the height the later time counts.
+    reaching = between(reached(f, height), reached(g, height))
+    passing = between(passed(f, height), passed(g, height))
+    return greater(reaching, passing)
+
+
+def between(one, other):
+    # A curve that never comes to the height, or is above it from the start, makes nobody wait there.
+    if one is None or other is None:
+        return NOUGHT
+    return minus(other, one)
