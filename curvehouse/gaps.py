@@ -16,7 +16,7 @@ def tallest(f, g):
 
 
 def widest(f, g):
-    # Where the last slope of the first one is not greater, it only can stay too high for the other by its last corner.
+    # With a last slope that is not greater, the first one stays out of reach just where its last corner does.
     if outgrows(f, g) or reached(g, f[0][-1][1]) is None:
         return None
     # The gap is told by height: as long as no corner of either is passed it grows or falls evenly.
