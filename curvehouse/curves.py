@@ -98,6 +98,11 @@ def flatter_corners(f):
     return [f[0][number] for number in range(1, len(slopes)) if under(slopes[number], slopes[number - 1])]
 
 
+def steep_enough(f):
+    # Not less than any slope; a whole number, so that what it is multiplied by does not become longer.
+    return (max([slope[0] // slope[1] for slope in slopes_behind(f[0], f[1])]) + 1, 1)
+
+
 def outgrows(f, g):
     # In the end the greater last slope is stronger than whatever was ahead.
     return under(g[1], f[1])

@@ -1,15 +1,12 @@
 """One house: what leaves it, and what of its offer goes unused."""
 
-from curvehouse.curves import curve
-from curvehouse.meets import corner_rows, gap_points
-from curvehouse.ratios import minus
+from curvehouse.meets import less
 from curvehouse.rests import left
 
 
 def served(coming, offer):
     # The least of C(t) and all A(s) + C(t) - C(s) is C(t) less the greatest of nought and all C(s) - A(s).
-    rest = unused(coming, offer)
-    return curve(gap_points(corner_rows(offer, rest)), minus(offer[1], rest[1]))
+    return less(offer, unused(coming, offer))
 
 
 def unused(coming, offer):

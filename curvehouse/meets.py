@@ -29,6 +29,11 @@ def total(curves):
     return summed(total(curves[:half]), total(curves[half:]))
 
 
+def less(f, g):
+    # Only for an f that begins not below g and nowhere grows slower: else the difference is no curve.
+    return curve(gap_points(corner_rows(f, g)), minus(f[1], g[1]))
+
+
 def above(f, g):
     gaps = gap_points(corner_rows(f, g))
     for gap in gaps:

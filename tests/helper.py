@@ -137,6 +137,51 @@ def large_curve(seed, corners=60):
     return shape(list(zip([Fraction(0)] + times, values)), Fraction(drawn(), drawn()))
 
 
+def places(story, other):
+    """All pairs (s, t) of times with a corner each: both of the story, or one of the story and t - s of the other."""
+    found = [(s, t) for s in story.times for t in story.times if s <= t]
+    found += [(s, s + length) for s in story.times for length in other.times]
+    return found + [(t - length, t) for t in story.times for length in other.times if length <= t]
+
+
+def keeps_within(coming, f):
+    """Between such places all is straight, and behind them the last slopes tell."""
+    return coming.last <= f.last and not breaches(coming, f)
+
+
+def breaches(coming, f):
+    found = [(None, t) for t in coming.times + f.times if coming.at(t) > f.at(t)]
+    return found + [(s, t) for s, t in places(coming, f) if coming.at(t) - coming.at(s) > f.at(t - s)]
+
+
+def keeps_above(offer, g):
+    return g.last <= offer.last and not lacks(offer, g)
+
+
+def lacks(offer, g):
+    return [(s, t) for s, t in places(offer, g) if offer.at(t) - offer.at(s) < g.at(t - s)]
+
+
+def growths(story, length):
+    """How much the story grows over the length, from all times on at which there is a corner at one end of it."""
+    begins = story.times + [t - length for t in story.times if t >= length]
+    return [story.at(s + length) - story.at(s) for s in begins]
+
+
+def lengths_between(story):
+    return sorted({t - s for s in story.times for t in story.times if s <= t})
+
+
+def drawn_curve(seed, corners, begin, steep, last):
+    """A curve of few corners, with small numbers: none of its slopes but the last one is greater than steep."""
+    numbers = row_of_numbers(seed)
+    points = [(Fraction(0), Fraction(begin))]
+    while len(points) < corners:
+        length = Fraction(next(numbers) % 5 + 1, next(numbers) % 2 + 1)
+        points.append((points[-1][0] + length, points[-1][1] + length * Fraction(next(numbers) % (steep * 2 + 1), 2)))
+    return shape(points, last)
+
+
 class CurveCase(unittest.TestCase):
     def check_ratio(self, found):
         self.assertIs(type(found), tuple)
@@ -179,6 +224,31 @@ class CurveCase(unittest.TestCase):
         plain = Plain(found)
         for t in probes(plain, *curves):
             self.assertEqual(plain.at(t), expected(t), (found, t))
+
+    def check_breach(self, found, coming, f):
+        """That it is a place at which the coming, in Fractions, does not keep within f."""
+        self.assertIs(type(found), tuple)
+        self.assertEqual(len(found), 2)
+        self.check_time(found[1])
+        t = Fraction(*found[1])
+        if found[0] is None:
+            self.assertGreater(coming.at(t), f.at(t))
+            return
+        self.check_time(found[0])
+        s = Fraction(*found[0])
+        self.assertLessEqual(s, t)
+        self.assertGreater(coming.at(t) - coming.at(s), f.at(t - s))
+
+    def check_lack(self, found, offer, g):
+        """That it is a place at which the offer, in Fractions, does not keep above g."""
+        self.assertIs(type(found), tuple)
+        self.assertEqual(len(found), 2)
+        self.check_time(found[0])
+        self.check_time(found[1])
+        s = Fraction(*found[0])
+        t = Fraction(*found[1])
+        self.assertLessEqual(s, t)
+        self.assertLess(offer.at(t) - offer.at(s), g.at(t - s))
 
     def check_arguments(self, function, names):
         self.assertEqual(list(inspect.signature(function).parameters), names)

@@ -1,7 +1,6 @@
 import bisect
 import itertools
 import unittest
-from fractions import Fraction
 
 from helper import (
     HALF, NOUGHT, SIXTY, SIXTY_MORE, SMALL, STAIRS, TINY, ZERO, CurveCase, Plain, large_curve, long_curve, probes,
