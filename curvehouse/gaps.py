@@ -3,16 +3,23 @@
 from curvehouse.curves import outgrows
 from curvehouse.heights import passed, reached
 from curvehouse.meets import corner_rows, gap_points
-from curvehouse.ratios import NOUGHT, greater, minus
+from curvehouse.ratios import NOUGHT, greater, minus, under
 
 
 def tallest(f, g):
     if outgrows(f, g):
         return None
-    found = NOUGHT
-    for gap in gap_points(corner_rows(f, g)):
-        found = greater(found, gap[1])
-    return found
+    return greater(NOUGHT, tallest_point(f, g)[1])
+
+
+def tallest_point(f, g):
+    # The time at which f is furthest above g, and by how much; for an f that does not outgrow g it is at a corner.
+    gaps = gap_points(corner_rows(f, g))
+    best = gaps[0]
+    for gap in gaps[1:]:
+        if under(best[1], gap[1]):
+            best = gap
+    return best
 
 
 def widest(f, g):

@@ -42,11 +42,19 @@ def bound(coming, rest):
 
 
 def ends(houses, curves, ways):
-    told = []
-    for f, pairs in zip(curves, comings_and_rests(houses, curves, ways)):
-        whole = joined_row([pair[1] for pair in pairs])
-        told.append((whole, tallest(f, whole), widest(f, whole), undone(f, whole)))
-    return told
+    return [end_of(pairs) for pairs in comings_and_rests(houses, curves, ways)]
+
+
+def last_end(houses, curves, ways):
+    # For who asks for the last stream alone: the rests of the others are not joined.
+    return end_of(comings_and_rests(houses, curves, ways)[-1])
+
+
+def end_of(pairs):
+    # A stream comes to its first house by its own curve.
+    f = pairs[0][0]
+    whole = joined_row([pair[1] for pair in pairs])
+    return (whole, tallest(f, whole), widest(f, whole), undone(f, whole))
 
 
 def joined_row(rests):

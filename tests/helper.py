@@ -1,10 +1,13 @@
-"""What the tests of curves share: curves written out by hand, their values reckoned another way, and their form."""
+"""What the tests share: curves written out by hand, their values reckoned another way, their form, and drawn works."""
 
 import bisect
 import inspect
 import math
 import unittest
 from fractions import Fraction
+
+from curvehouse.meets import least, most
+from curvehouse.stories import surest, tightest
 
 SIXTY = int("123456789" * 6 + "123456")
 SIXTY_MORE = 10 ** 60 - 1
@@ -37,6 +40,15 @@ def shape(points, last):
     slopes = slopes_of(points, Fraction(last))
     kept = [points[k] for k in range(len(points)) if k == 0 or slopes[k] != slopes[k - 1]]
     return (tuple(corners_of(kept)), told(last))
+
+
+def written(worth):
+    """A Fraction is shown by Python just as a ratio is to be."""
+    return str(Fraction(*worth))
+
+
+def written_curve(f):
+    return " ".join([f"{written(t)}:{written(v)}" for t, v in f[0]] + ["+" + written(f[1])])
 
 
 class Plain:
@@ -180,6 +192,32 @@ def drawn_curve(seed, corners, begin, steep, last):
         length = Fraction(next(numbers) % 5 + 1, next(numbers) % 2 + 1)
         points.append((points[-1][0] + length, points[-1][1] + length * Fraction(next(numbers) % (steep * 2 + 1), 2)))
     return shape(points, last)
+
+
+def drawn_ways(seed, houses, streams):
+    numbers = row_of_numbers(seed)
+    pairs = [(next(numbers) % houses, next(numbers) % houses) for k in range(streams)]
+    return [(min(pair), max(pair)) for pair in pairs]
+
+
+class Drawn:
+    """Works with stories: offers, comings and ways, and curves that the stories keep to."""
+
+    def __init__(self, seed, houses, streams, steep=3):
+        self.ways = drawn_ways(seed, houses, streams)
+        self.offers = [drawn_curve(seed * 31 + k, 2 + (seed + k) % 3, (seed + k) % 2, steep * 2, steep + k % 2)
+                       for k in range(houses)]
+        self.comings = [drawn_curve(seed * 37 + k, 2 + (seed + k) % 3, (seed + k) % 3, 2, Fraction(k % 3, 2))
+                        for k in range(streams)]
+        self.houses = [surest(offer) for offer in self.offers]
+        self.curves = [tightest(coming) for coming in self.comings]
+
+    def with_room(self, seed):
+        """Curves that are not round, and greater (less) than they need be."""
+        self.houses = [least(house, drawn_curve(seed * 41 + k, 3, 0, 4, 3)) for k, house in enumerate(self.houses)]
+        self.curves = [most(f, drawn_curve(seed * 43 + k, 3, 1, 3, Fraction(k % 3, 2)))
+                       for k, f in enumerate(self.curves)]
+        return self
 
 
 class CurveCase(unittest.TestCase):

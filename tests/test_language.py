@@ -16,6 +16,7 @@ METHODS = set(
     "append clear copy count endswith extend find get index insert isalnum isalpha isdigit islower isspace isupper "
     "items join keys ljust lower lstrip partition pop remove replace reverse rfind rjust rpartition rsplit rstrip "
     "setdefault split splitlines startswith strip update upper values zfill bit_length add discard title".split())
+VALUES = set("count index title find get join lower upper split strip copy add".split())
 SPECIAL = {"__init__", "__eq__", "__repr__", "__str__", "__len__", "__all__", "__version__", "__name__"}
 UNUSED = {"register", "mro", "elements", "open", "input", "version_info", "with_traceback", "add_note"}
 WORDS = re.compile(
@@ -198,6 +199,32 @@ def defined(tree):
     return found
 
 
+def methods_of(tree):
+    """For each class its methods, as often as they stand."""
+    return {part.name: [method.name for method in part.body if isinstance(method, ast.FunctionDef)]
+            for part in tree.body if isinstance(part, ast.ClassDef)}
+
+
+def values_of(tree):
+    """The names under which objects are given values."""
+    return {node.attr for node in ast.walk(tree) if isinstance(node, ast.Attribute) and isinstance(node.ctx, ast.Store)}
+
+
+def class_name_faults(trees):
+    """Over the whole package: methods that stand twice in a class, and names that are a method and a value."""
+    methods = set()
+    for tree in trees:
+        for name, found in methods_of(tree).items():
+            methods.update(found)
+            if len(set(found)) < len(found):
+                yield f"L18: a method stands twice in {name}"
+    for name in sorted(methods & set().union(*[values_of(tree) for tree in trees])):
+        yield f"L18: {name} is a method and a value"
+    for tree in trees:
+        for name in sorted(values_of(tree) & PYTHONS_ATTRIBUTES - VALUES):
+            yield f"L26: a value is called {name}"
+
+
 def drawn_from(tree):
     return [part.module for part in tree.body if isinstance(part, ast.ImportFrom)]
 
@@ -237,6 +264,15 @@ class LanguageTest(unittest.TestCase):
             with self.subTest(module):
                 self.assertNotIn(module, reached_from(module, drawn))
         self.assertIn("a", reached_from("a", {"a": ["b"], "b": ["c"], "c": ["a"]}))
+
+    def test_methods_and_values(self):
+        trees = [ast.parse(path.read_text(encoding="utf-8")) for path in sorted(PACKAGE.glob("*.py"))]
+        self.assertEqual(list(class_name_faults(trees)), [])
+        one = "class A:\n    def a(self):\n        pass\n"
+        for others in (["class B:\n    def b(self):\n        self.a = 1\n"], [one, "def f(x):\n    x.items = 1\n"],
+                       ["class C:\n    def c(self):\n        pass\n    def c(self):\n        pass\n"]):
+            self.assertNotEqual(list(class_name_faults([ast.parse(text) for text in [one] + others])), [])
+        self.assertEqual(list(class_name_faults([ast.parse(one), ast.parse(one)])), [])
 
     def test_what_is_outside_is_found(self):
         for text in (

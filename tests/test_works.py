@@ -4,26 +4,20 @@ from fractions import Fraction
 
 from helper import (
     BENT_BOTH_WAYS, BENT_DOWN, BENT_UP, HALF, NOUGHT, ONE, SIXTY, SIXTY_MORE, SMALL, STAIRS, TINY, ZERO, CurveCase,
-    Plain, drawn_curve, keeps_above, keeps_within, large_curve, long_curve, row_of_numbers, shape, told)
+    Drawn, Plain, drawn_curve, keeps_above, keeps_within, large_curve, long_curve, shape, told)
 
 from curvehouse.curves import curve, heap, late
 from curvehouse.errors import CurveError, NoHouse, NoWay
 from curvehouse.gaps import tallest, widest
 from curvehouse.house import served
 from curvehouse.joins import joined
-from curvehouse.meets import above, least, most, summed, total
+from curvehouse.meets import above, summed, total
 from curvehouse.ranks import lefts, shared
 from curvehouse.rests import left
 from curvehouse.stories import surest, tightest
 from curvehouse.undoing import undone
 from curvehouse.works import bounds, ends, run
 from curvehouse.worst import worst
-
-
-def drawn_ways(seed, houses, streams):
-    numbers = row_of_numbers(seed)
-    pairs = [(next(numbers) % houses, next(numbers) % houses) for k in range(streams)]
-    return [(min(pair), max(pair)) for pair in pairs]
 
 
 def passing(ways, house):
@@ -67,26 +61,6 @@ def plain_ends(houses, curves, ways):
             whole = joined(bound[1], whole)
         found.append((whole, tallest(f, whole), widest(f, whole), undone(f, whole)))
     return found
-
-
-class Drawn:
-    """Works with stories: offers, comings and ways, and curves that the stories keep to."""
-
-    def __init__(self, seed, houses, streams, steep=3):
-        self.ways = drawn_ways(seed, houses, streams)
-        self.offers = [drawn_curve(seed * 31 + k, 2 + (seed + k) % 3, (seed + k) % 2, steep * 2, steep + k % 2)
-                       for k in range(houses)]
-        self.comings = [drawn_curve(seed * 37 + k, 2 + (seed + k) % 3, (seed + k) % 3, 2, Fraction(k % 3, 2))
-                        for k in range(streams)]
-        self.houses = [surest(offer) for offer in self.offers]
-        self.curves = [tightest(coming) for coming in self.comings]
-
-    def with_room(self, seed):
-        """Curves that are not round, and greater (less) than they need be."""
-        self.houses = [least(house, drawn_curve(seed * 41 + k, 3, 0, 4, 3)) for k, house in enumerate(self.houses)]
-        self.curves = [most(f, drawn_curve(seed * 43 + k, 3, 1, 3, Fraction(k % 3, 2)))
-                       for k, f in enumerate(self.curves)]
-        return self
 
 
 class WorksCase(CurveCase):
