@@ -194,6 +194,18 @@ def drawn_curve(seed, corners, begin, steep, last):
     return shape(points, last)
 
 
+def bent_up_curve(seed, corners, begin=0):
+    """A curve that becomes steeper at each corner, with small numbers."""
+    numbers = row_of_numbers(seed)
+    points = [(Fraction(0), Fraction(begin))]
+    slope = Fraction(next(numbers) % 2, 2)
+    while len(points) < corners:
+        length = Fraction(next(numbers) % 7 + 1, next(numbers) % 3 + 1)
+        points.append((points[-1][0] + length, points[-1][1] + length * slope))
+        slope += Fraction(next(numbers) % 5 + 1, 2)
+    return shape(points, slope)
+
+
 def drawn_ways(seed, houses, streams):
     numbers = row_of_numbers(seed)
     pairs = [(next(numbers) % houses, next(numbers) % houses) for k in range(streams)]

@@ -4,7 +4,7 @@ from fractions import Fraction
 
 from helper import (
     BENT_BOTH_WAYS, BENT_DOWN, BENT_UP, HALF, NOUGHT, SHAPES, SIXTY, SIXTY_MORE, SMALL, STAIRS, ZERO, CurveCase,
-    Plain, corners_of, halved, large_curve, long_curve, probes, shape, told)
+    Plain, bent_up_curve, corners_of, halved, large_curve, long_curve, probes, shape, told)
 
 from curvehouse.curves import curve, heap, late
 from curvehouse.errors import CurveError, NoTime
@@ -120,6 +120,32 @@ class PairsTest(JoinCase):
     def test_many_more(self):
         for seed in range(1, 121):
             self.check_joined(long_curve(seed, 3 + seed % 5), long_curve(seed + 200, 2 + seed % 6))
+
+    def test_bent_up_ones(self):
+        for seed in range(1, 41):
+            for begin, other in ((0, 0), (0, 2), (3, 0), (1, 3)):
+                f = bent_up_curve(seed, 1 + seed % 6, begin)
+                self.check_joined(f, bent_up_curve(seed + 100, 1 + seed % 5, other))
+                self.check_joined(f, shape([(0, other), (2, other)], HALF))
+            self.check_joined(bent_up_curve(seed, 5), bent_up_curve(seed, 5))
+
+    def test_bent_up_ones_of_sixty_corners(self):
+        for begin in (0, 4):
+            found = self.check_joined(bent_up_curve(1, 60), bent_up_curve(2, 60, begin), step=17)
+            self.assertGreater(len(found[0]), 60)
+        self.check_joined(bent_up_curve(3, 60), BENT_BOTH_WAYS, step=2)
+        # In a row of twelve each stretch that is flatter than all last slopes is there once.
+        houses = [bent_up_curve(seed, 60) for seed in range(1, 13)]
+        whole = houses[0]
+        for house in houses[1:]:
+            whole = joined(whole, house)
+        last = min(Plain(house).last for house in houses)
+        stretches = [(slope, after - ahead) for plain in map(Plain, houses)
+                     for slope, ahead, after in zip(plain.slopes, plain.times, plain.times[1:]) if slope < last]
+        points = [(0, 0)]
+        for slope, length in sorted(stretches):
+            points.append((points[-1][0] + length, points[-1][1] + slope * length))
+        self.check_curve(whole, shape(points, last))
 
     def test_sixty_corners_and_few(self):
         for seed in range(1, 4):

@@ -3,8 +3,8 @@ import unittest
 from fractions import Fraction
 
 from helper import (
-    BENT_BOTH_WAYS, BENT_DOWN, BENT_UP, NOUGHT, ONE, SIXTY, SIXTY_MORE, SMALL, STAIRS, TINY, ZERO, CurveCase,
-    Drawn, Plain, drawn_curve, keeps_above, keeps_within, large_curve, long_curve, shape, told)
+    BENT_BOTH_WAYS, BENT_DOWN, BENT_UP, HALF, NOUGHT, ONE, SIXTY, SIXTY_MORE, SMALL, STAIRS, TINY, ZERO, CurveCase,
+    Drawn, Plain, bent_up_curve, drawn_curve, keeps_above, keeps_within, large_curve, long_curve, shape, told)
 
 from curvehouse.curves import curve, heap, late
 from curvehouse.errors import CurveError, NoHouse
@@ -281,6 +281,10 @@ class LargeTest(RowsCase):
         self.check_reached(f, [house])
         self.check_reached(f, [late((2, 1), (5, 1)), house])
         self.check_reached(heap((4, 1), ONE), [house, surest(summed(long_curve(3), heap(NOUGHT, (4, 1))))])
+
+    def test_twelve_houses_of_sixty_corners(self):
+        f = shape([(0, 9), (7, 60), (30, 90), (99, 150)], HALF)
+        self.check_reached(f, [bent_up_curve(seed, 60) for seed in range(1, 13)])
 
     def test_sixty_figures(self):
         self.check_reached(shape([(0, SIXTY), (TINY, SIXTY + 1)], TINY),
